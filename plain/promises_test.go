@@ -7,10 +7,11 @@ import (
 
 	"heriot/api"
 	"heriot/plain"
+	"heriot/samples"
 	"heriot/types"
 )
 
-const rounds = 200
+const rounds = 120
 
 // made is a program by chance whose types are found, with arguments and a fuel for it.
 type made struct {
@@ -25,7 +26,7 @@ func eachProgram(t *testing.T, visit func(p made)) {
 	t.Helper()
 	taken := 0
 	for seed := range rounds {
-		units := makeUnits(t, seed)
+		units := readUnits(t, samples.Texts(seed)...)
 		if _, r := types.Infer(units); r.E != api.OK {
 			continue
 		}
@@ -171,7 +172,7 @@ func TestRewritings(t *testing.T) {
 		some := rand.New(rand.NewSource(int64(p.seed)))
 		want := plain.Run(p.units, p.args, p.fuel)
 		for which := range taken {
-			units := makeUnits(t, p.seed) // a copy that may be changed
+			units := readUnits(t, samples.Texts(p.seed)...) // a copy that may be changed
 			for i := range 4 {
 				list := expressions(units)
 				e := list[some.Intn(len(list))]
@@ -203,7 +204,7 @@ func TestSpoiled(t *testing.T) {
 	results := map[bool]int{}
 	eachProgram(t, func(p made) {
 		some := rand.New(rand.NewSource(int64(p.seed)))
-		units := makeUnits(t, p.seed) // a copy that may be changed
+		units := readUnits(t, samples.Texts(p.seed)...) // a copy that may be changed
 		for range 1 + some.Intn(2) {
 			list := expressions(units)
 			spoil(some, list[some.Intn(len(list))])

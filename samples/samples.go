@@ -1,14 +1,20 @@
-package plain_test
+// Package samples makes programs for the tests of the layers. No layer calls it.
+package samples
 
 import (
-	"math/rand"
 	"slices"
 	"strconv"
 	"strings"
-	"testing"
-
-	"heriot/api"
 )
+
+// chance gives numbers by a short rule, so that a program can be made again by its number.
+type chance struct{ state uint64 }
+
+// below gives a number from 0 to n - 1.
+func (c *chance) below(n int) int {
+	c.state = c.state*6364136223846793005 + 1442695040888963407
+	return int((c.state >> 33) % uint64(n))
+}
 
 // shape is a type, as it is written in a text.
 type shape struct {
@@ -40,7 +46,7 @@ type named struct {
 
 // maker makes programs by chance whose types are found, and which do something: functions count their first parameter down.
 type maker struct {
-	*rand.Rand
+	chance
 	left  int // how many expressions may still be made
 	scope []named
 	funs  []named
@@ -55,15 +61,14 @@ const tools = `(unit tools (exception no) (exception why) (data list (a) (Nil) (
  (fun fold (f z l) (case l ((Nil) z) ((Cons x r) (fold f (call (call f z) x) r))))
  (fun upto (n) (if (< n 1) (Nil) (Cons n (upto (- n 1))))))`
 
-// makeUnits makes a program of three units; its main has two parameters.
-func makeUnits(t *testing.T, seed int) []api.Unit {
-	t.Helper()
-	m := &maker{Rand: rand.New(rand.NewSource(int64(seed)))}
+// Texts gives the texts of the three units of a program, another one for each number. Most have types and end; main has two parameters.
+func Texts(number int) []string {
+	m := &maker{chance: chance{uint64(number) * 0x9e3779b97f4a7c15}}
 	first, last := "(unit a (use tools)", "(unit m (use a) (use tools)"
-	for i := range 1 + m.Intn(3) {
+	for i := range 1 + m.below(3) {
 		first += m.group("f" + strconv.Itoa(i))
 	}
-	for i := range m.Intn(2) {
+	for i := range m.below(2) {
 		last += m.group("g" + strconv.Itoa(i))
 	}
 	m.scope, m.own = []named{{name: "n", is: integer}, {name: "k", is: integer}}, len(m.funs)
@@ -73,15 +78,15 @@ func makeUnits(t *testing.T, seed int) []api.Unit {
 		last += "(seq (handle (seq " + m.callOf(f, m.one("n k 3")) + " unit) (" + m.one("no why Div Index Size") + " x (print x))) "
 	}
 	m.left = 10
-	return readUnits(t, tools, first+")", last+m.expr(integer)+strings.Repeat(")", len(m.funs)+2))
+	return []string{tools, first + ")", last + m.expr(integer) + strings.Repeat(")", len(m.funs)+2)}
 }
 
 // group makes a declaration of functions.
 func (m *maker) group(name string) string {
 	m.own = len(m.funs)
-	for i := range 1 + m.Intn(2) {
+	for i := range 1 + m.below(2) {
 		f := named{name: name + string(rune('a'+i)), params: []shape{integer}, is: m.shape(2)}
-		for range m.Intn(3) {
+		for range m.below(3) {
 			f.params = append(f.params, m.shape(2))
 		}
 		m.funs = append(m.funs, f)
@@ -106,13 +111,13 @@ func (m *maker) fun(f named) string {
 	}
 	m.left = 0
 	none := m.expr(f.is)
-	m.left = 5 + m.Intn(25)
+	m.left = 5 + m.below(25)
 	return f.name + " (" + strings.Join(params, " ") + ") " + f.is.text() + " (if (< n 1) " + none + " " + m.expr(f.is) + ")"
 }
 
 // shape makes a shape that is nested at most so deep.
 func (m *maker) shape(depth int) shape {
-	if depth == 0 || m.Intn(3) == 0 {
+	if depth == 0 || m.below(3) == 0 {
 		return shapeOf(m.one("int int int bool unit color"))
 	}
 	head := m.one("list list pair * * -> -> ref array")
@@ -124,7 +129,7 @@ func (m *maker) shape(depth int) shape {
 
 func (m *maker) one(list string) string {
 	words := strings.Fields(list)
-	return words[m.Intn(len(words))]
+	return words[m.below(len(words))]
 }
 
 // form writes a form whose parts are words and shapes: for each shape an expression is made.
@@ -161,16 +166,16 @@ func (m *maker) variable(want shape) string {
 	if len(found) == 0 {
 		return ""
 	}
-	return found[m.Intn(len(found))]
+	return found[m.below(len(found))]
 }
 
 // expr makes an expression of a shape.
 func (m *maker) expr(want shape) string {
 	m.left--
-	if v := m.variable(want); v != "" && (m.left < 0 || m.Intn(3) == 0) {
+	if v := m.variable(want); v != "" && (m.left < 0 || m.below(3) == 0) {
 		return v
 	}
-	if m.left < 0 || m.Intn(3) == 0 {
+	if m.left < 0 || m.below(3) == 0 {
 		return m.make(want)
 	}
 	return m.use(want)
@@ -217,7 +222,7 @@ func (m *maker) make(want shape) string {
 
 func (m *maker) makeInt() string {
 	other := m.shape(1)
-	switch m.Intn(5) {
+	switch m.below(5) {
 	case 0:
 		return m.form("size", shapeOf("list", other))
 	case 1:
@@ -230,7 +235,7 @@ func (m *maker) makeInt() string {
 
 func (m *maker) effect() string {
 	other := m.shape(1)
-	switch m.Intn(4) {
+	switch m.below(4) {
 	case 0:
 		return m.form("set", shapeOf("ref", other), other)
 	case 1:
@@ -243,7 +248,7 @@ func (m *maker) effect() string {
 func (m *maker) use(want shape) string {
 	other := m.shape(2)
 	name := m.one("x y z v")
-	switch m.Intn(20) {
+	switch m.below(20) {
 	case 0, 1:
 		return "(let " + name + " " + m.expr(other) + " " + m.with(name, other, want) + ")"
 	case 2:
@@ -275,14 +280,14 @@ func (m *maker) use(want shape) string {
 // tool calls one of the functions of tools, or raises.
 func (m *maker) tool(want, other shape) string {
 	switch {
-	case want.head == "list" && m.Intn(2) == 0:
+	case want.head == "list" && m.below(2) == 0:
 		return m.form("map", shapeOf("->", other, want.of[0]), shapeOf("list", other))
 	case want.head == "list" && want.of[0].head == "int":
 		return m.form("upto", integer)
 	case want.head == "->" && want.of[0].text() == want.of[1].text():
 		return m.form("twice", want)
 	}
-	switch m.Intn(4) {
+	switch m.below(4) {
 	case 0:
 		return m.form("raise", m.one("no why Div Index Size"), integer)
 	case 1:
@@ -293,7 +298,9 @@ func (m *maker) tool(want, other shape) string {
 
 // call calls a function that gives a shape, if there is one: one of the same declaration with a smaller first argument.
 func (m *maker) call(want shape) string {
-	for _, i := range m.Perm(len(m.funs)) {
+	begin := m.below(len(m.funs) + 1)
+	for k := range m.funs {
+		i := (begin + k) % len(m.funs)
 		if m.funs[i].is.text() != want.text() {
 			continue
 		}

@@ -1,0 +1,80 @@
+package samples_test
+
+import (
+	"reflect"
+	"testing"
+
+	"heriot/api"
+	"heriot/flat"
+	"heriot/samples"
+	"heriot/types"
+	"heriot/words"
+)
+
+// programOf is the program of a number, if its types are found.
+func programOf(t *testing.T, number int) (api.Typed, bool) {
+	t.Helper()
+	var units []api.Unit
+	for _, text := range samples.Texts(number) {
+		u, r := words.Read(text)
+		if r.E != api.OK {
+			t.Fatalf("%d: %+v", number, r)
+		}
+		units = append(units, u)
+	}
+	typed, r := types.Infer(units)
+	return typed, r.E == api.OK
+}
+
+func TestTexts(t *testing.T) {
+	const count = 100
+	found, texts := 0, map[string]bool{}
+	for number := range count {
+		if _, ok := programOf(t, number); ok {
+			found++
+		}
+		list := samples.Texts(number)
+		if !reflect.DeepEqual(list, samples.Texts(number)) {
+			t.Errorf("%d: not the same again", number)
+		}
+		texts[list[len(list)-1]] = true
+	}
+	if found < count*9/10 || len(texts) < count*9/10 {
+		t.Errorf("%d have types, %d are different", found, len(texts))
+	}
+}
+
+// isSame tells whether programs are the same; variables of data types have no names in the notation, and lists without elements may be nil.
+func isSame(a, b api.Program) bool {
+	return samples.Write(a) == samples.Write(b) && reflect.DeepEqual(a.Exns, b.Exns) && a.Main == b.Main
+}
+
+func TestNotation(t *testing.T) {
+	for number := range 50 {
+		typed, ok := programOf(t, number)
+		if !ok {
+			continue
+		}
+		p, e := flat.Flatten(typed)
+		got := samples.Program(samples.Write(p))
+		if e != api.OK || !isSame(got, p) || flat.Valid(got) != api.OK {
+			t.Errorf("%d: %s, not %s", number, samples.Write(got), samples.Write(p))
+		}
+	}
+	const text = `data list 1 = Nil | Cons v0 (d0 v0 {e0});
+exn no;
+fun f 1 3 1 {0 2 e0} (v0 (-> int v0 @1 {0 1 e0})) (ref v0 @2) [new @4; 2 (d0 v0 @4 {1}) := make .1 0 1 @4; 3 int := call .0 (int v0) {0} {1 e0} @4 @2 keep last 2; 4 int := handle {0 3} [value 0] [bind 5; value 5] [exn 3; bind 6; value 6]; end @4; value 2];
+fun main 0 0 0 {} () int [0 int := int #-5; value 0];`
+	p := samples.Program(text)
+	if got := samples.Write(p); got != text {
+		t.Errorf("%s", got)
+	}
+	s := p.Funs[0].Body.Steps
+	want := api.Step{Op: api.OCall, Out: 3, Args: []int{2}, Types: []api.Type{{}, {Kind: api.TVar}}, Effects: []api.Effect{{Regions: []int{0}}, {Regions: []int{1}, Vars: []int{0}}}, Regions: []int{4, 2}, Modes: []int{api.Keep, api.Last}}
+	if s[2].Effects[0].Vars == nil && !reflect.DeepEqual(s[2], want) {
+		t.Errorf("%+v, not %+v", s[2], want)
+	}
+	if s[0].Op != api.ONew || s[0].Out != -1 || s[0].Region != 4 || !reflect.DeepEqual(s[3].Keep, []int{0, 3}) || p.Main != 1 || len(p.Exns) != 4 {
+		t.Errorf("%+v", p)
+	}
+}
