@@ -301,6 +301,27 @@ func TestDeepTrees(t *testing.T) {
 	checkFlatten(t, typed, api.ErrBig)
 }
 
+// TestParameters: as many names as types, whether they are used or not.
+func TestParameters(t *testing.T) {
+	for count, want := range []api.Errno{api.ErrFlat, api.OK, api.ErrFlat, api.ErrFlat} {
+		typed := typedOf(t, "(unit m (fun f (a) 5) (fun main (n) n))")
+		typed.Funs[0].Params = make([]string, count)
+		checkFlatten(t, typed, want)
+		if want == api.ErrFlat {
+			checkFlatten(t, withBig(typed), want)
+		}
+	}
+}
+
+// TestNoSteps: names have no steps, as many as there are.
+func TestNoSteps(t *testing.T) {
+	typed := typedOf(t, "(unit m (fun main (n) n))")
+	typed.Funs[0].Body = doubled(18, typed.Funs[0].Body)
+	if got := samples.BlockText(flattened(t, typed).Funs[0].Body); got != "[value 0]" {
+		t.Error(got)
+	}
+}
+
 // TestManyParameters: a function may have as many variables as there are numbers.
 func TestManyParameters(t *testing.T) {
 	typed := typedOf(t, base, "(unit m (use lib) (fun f (a) 5) (fun main (n) n))")

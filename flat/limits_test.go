@@ -15,17 +15,19 @@ func times(count int, text string) string { return strings.Repeat(text, count) }
 // TestMostNodes: what is a node, and how many there may be.
 func TestMostNodes(t *testing.T) {
 	for own, nodes := range map[string]int{
-		"":                                     0,
-		"data a 0 = A | B; data b 1 = C;":      0,
+		"":                                0,
+		"data a 0 = A | B; data b 1 = C;": 0,
+		"fun f (int) (-> int int) [9 (-> int int) := fn [bind 1; value 0]; value 9];": 11,
 		"exn a; exn b;":                        0,
 		"data a 1 = A v0;":                     1,
 		"data a 1 = A v0 | B (ref (* v0 v0));": 5,
 		"fun f (int) int [value 0];":           4,
-		"fun f 3 (int (-> v0 (ref v1))) (ref int) [9 (ref int) := raise .0 0; value 9];":                          12,
-		"fun f () int [9 int := int; value 9];":                                                                   5,
-		"fun f 2 (int) int [9 int := call .0 (int (ref v1)) 0; value 9];":                                         9,
-		"fun f (bool) int [1 int := int; 3 int := if 0 [value 1] [value 1]; value 3];":                            10,
-		"fun f (int) int [9 int := handle [8 int := int; value 8] [bind 2; value 2] [bind 3; value 3]; value 9];": 11,
+		"fun f 3 (int (-> v0 (ref v1))) (ref int) [9 (ref int) := raise .0 0; value 9];":                           12,
+		"fun f () int [9 int := int; value 9];":                                                                    5,
+		"fun f 2 (int) int [9 int := call .0 (int (ref v1)) 0; value 9];":                                          9,
+		"fun f (bool) int [1 int := int; 3 int := if 0 [value 1] [value 1]; value 3];":                             10,
+		"fun f (bool) int [3 int := if 0 [1 int := int; value 1] [2 int := int; value 2]; 4 int := int; value 4];": 14,
+		"fun f (int) int [9 int := handle [8 int := int; value 8] [bind 2; value 2] [bind 3; value 3]; value 9];":  11,
 	} {
 		filled := own + someMain + "data fill 0 = F " + times(api.MaxNodes-nodes-4, "int ")
 		checkValid(t, filled+";", api.OK)
@@ -61,6 +63,8 @@ func nestedRefs(depth int) string {
 func TestDeepest(t *testing.T) {
 	checkValid(t, nestedIfs(api.MaxDepth), api.OK)
 	checkValid(t, nestedIfs(api.MaxDepth+1), api.ErrBig)
+	// What is behind the first block that is too deep, inside and outside, is not looked at any more.
+	checkValid(t, strings.ReplaceAll(nestedIfs(api.MaxDepth+1), "; value ", "; 5000 int := int; value "), api.ErrBig)
 	most, more := nestedRefs(api.MaxDepth), nestedRefs(api.MaxDepth+1)
 	for _, text := range []string{
 		"data a 0 = A TYPE;",
@@ -101,6 +105,16 @@ func TestEndless(t *testing.T) {
 	checkFlatten(t, typed, api.ErrBig)
 	typed.Funs[0].Body = api.Expr{Kind: api.EInt, Type: parts[0]}
 	checkFlatten(t, typed, api.ErrBig)
+	typed.Funs[0].Body = doubled(60, api.Expr{Kind: api.EName, Name: "n"})
+	checkFlatten(t, typed, api.ErrBig)
+}
+
+// doubled is a tree of so many levels whose leaves are an expression.
+func doubled(levels int, leaf api.Expr) api.Expr {
+	for range levels {
+		leaf = api.Expr{Kind: api.ESeq, Kids: []api.Expr{leaf, leaf}}
+	}
+	return leaf
 }
 
 // checkFlatten asks for an error, and no program with it.

@@ -9,7 +9,7 @@ const many = -1
 type shape struct {
 	args   int
 	blocks int
-	int    bool
+	number bool
 	code   bool
 	types  bool
 }
@@ -17,7 +17,7 @@ type shape struct {
 func shapeOf(op int) (shape, bool) {
 	switch op {
 	case api.OInt, api.OBool:
-		return shape{int: true}, true
+		return shape{number: true}, true
 	case api.OUnit:
 		return shape{}, true
 	case api.OMake:
@@ -25,7 +25,7 @@ func shapeOf(op int) (shape, bool) {
 	case api.OTuple:
 		return shape{args: many}, true
 	case api.OGet:
-		return shape{args: 1, int: true}, true
+		return shape{args: 1, number: true}, true
 	case api.OCall:
 		return shape{args: many, code: true, types: true}, true
 	case api.OFn:
@@ -52,7 +52,7 @@ func shapeOf(op int) (shape, bool) {
 func isShaped(s *api.Step) bool {
 	has, ok := shapeOf(s.Op)
 	return ok && isCount(len(s.Args), has.args) && isCount(len(s.Blocks), has.blocks) &&
-		(has.int || s.Int == 0) && (has.code || s.Code == 0) && (has.types || len(s.Types) == 0) && isWithoutRegions(s)
+		(has.number || s.Int == 0) && (has.code || s.Code == 0) && (has.types || len(s.Types) == 0) && isWithoutRegions(s)
 }
 
 func isCount(count, want int) bool { return count == want || want == many }
