@@ -35,7 +35,7 @@ func (s shape) text() string {
 
 func shapeOf(head string, of ...shape) shape { return shape{head, of} }
 
-var integer = shapeOf("int")
+var integer = shape{head: "int"}
 
 // named is a variable, or a function with its parameters, by its shape.
 type named struct {
