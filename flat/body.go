@@ -1,6 +1,10 @@
 package flat
 
-import "heriot/api"
+import (
+	"heriot/api"
+	"heriot/outline"
+	"heriot/stack"
+)
 
 // body is the body of a function that is looked at.
 type body struct {
@@ -8,7 +12,7 @@ type body struct {
 	fun   *api.Fun
 	bound map[int]bool      // the variables that are bound in the text so far
 	types map[int]*api.Type // the types of those that are in scope
-	scope stack[int]        // those that are in scope, the innermost last
+	scope stack.Of[int]     // those that are in scope, the innermost last
 }
 
 func (c checker) checkBody(f *api.Fun) {
@@ -29,7 +33,7 @@ func (b *body) take(v int) {
 // bring brings a variable into scope.
 func (b *body) bring(v int, t *api.Type) {
 	b.types[v] = t
-	b.scope.push(v)
+	b.scope.Push(v)
 }
 
 // typeOf requires that a variable is in scope.
@@ -68,7 +72,7 @@ func (b *body) inside(in *api.Block, binds []*api.Type) *api.Type {
 	}
 	t := b.typeOf(in.Value)
 	for len(b.scope) > outside {
-		delete(b.types, b.scope.pop())
+		delete(b.types, b.scope.Pop())
 	}
 	return t
 }
@@ -100,7 +104,7 @@ func (b *body) cases(s *api.Step, t *api.Type) {
 		var own []*api.Type
 		for i := range con.Fields {
 			field := instance(&con.Fields[i], t.Args)
-			if isTooLarge(&field) {
+			if outline.IsTooLarge(&field) {
 				panic(api.ErrBig)
 			}
 			own = append(own, &field)

@@ -1,17 +1,20 @@
 package flat
 
-import "heriot/api"
+import (
+	"heriot/api"
+	"heriot/outline"
+)
 
 // checker looks at a program as plain data; its checks end by a panic with the first error.
 type checker struct{ *api.Program }
 
 func check(p *api.Program) {
-	if isBig(p) {
+	if outline.IsBig(p) {
 		panic(api.ErrBig)
 	}
 	c := checker{p}
 	c.checkDatas()
-	c.checkExns()
+	require(outline.HasOwnExns(c.Exns))
 	c.checkFuns()
 	c.checkMain()
 	for i := range p.Funs {
@@ -26,11 +29,6 @@ func (c checker) checkDatas() {
 			require(c.areTypes(con.Fields, len(d.Vars), i+1))
 		}
 	}
-}
-
-func (c checker) checkExns() {
-	require(len(c.Exns) >= 3)
-	require(c.Exns[codeDiv] == "Div" && c.Exns[codeIndex] == "Index" && c.Exns[codeSize] == "Size")
 }
 
 func (c checker) checkFuns() {
@@ -55,8 +53,8 @@ func isNothing(e api.Effect) bool { return len(e.Regions) == 0 && len(e.Vars) ==
 
 // isType tells whether a type is one for so many type variables and the first data types.
 func (c checker) isType(t *api.Type, vars, datas int) bool {
-	bare := t.Name == "" && t.Region == 0 && isNothing(t.Effect)
-	return bare && isNumbered(t, vars, datas) && c.takesArgs(t) && c.areTypes(t.Args, vars, datas)
+	return t.Region == 0 && isNothing(t.Effect) && outline.HasParts(t, c.Datas[:datas]) &&
+		(t.Kind != api.TVar || t.N < vars) && c.areTypes(t.Args, vars, datas)
 }
 
 func (c checker) areTypes(list []api.Type, vars, datas int) bool {
@@ -68,29 +66,8 @@ func (c checker) areTypes(list []api.Type, vars, datas int) bool {
 	return true
 }
 
-func isNumbered(t *api.Type, vars, datas int) bool {
-	switch t.Kind {
-	case api.TVar:
-		return t.N >= 0 && t.N < vars
-	case api.TData:
-		return t.N >= 0 && t.N < datas
-	}
-	return t.N == 0
-}
-
-// takesArgs tells whether the kind of a type is one, and whether it has as many parts as that has.
-func (c checker) takesArgs(t *api.Type) bool {
-	switch t.Kind {
-	case api.TInt, api.TBool, api.TUnit, api.TVar:
-		return len(t.Args) == 0
-	case api.TData:
-		return len(t.Args) == len(c.Datas[t.N].Vars)
-	case api.TTuple:
-		return len(t.Args) >= 2
-	case api.TArrow:
-		return len(t.Args) == 2
-	case api.TRef, api.TArray:
-		return len(t.Args) == 1
-	}
-	return false
+// isShaped tells whether a step has the fields of its operation, which is one of flat programs, and no others.
+func isShaped(s *api.Step) bool {
+	return outline.IsShaped(s) && s.Op < api.ONew && s.Region == 0 &&
+		len(s.Regions) == 0 && len(s.Effects) == 0 && len(s.Modes) == 0 && len(s.Keep) == 0
 }

@@ -2,8 +2,11 @@ package flat
 
 import "heriot/api"
 
-// none is the operation of expressions that have no step of their own.
-const none = -1
+// none is the operation of expressions that have no step of their own; many says that an expression may have any number of kids.
+const (
+	none = -1
+	many = -1
+)
 
 // forms says how expressions of each kind are written: by which operation, how many kids they have, and how many of these, the last ones, are written as blocks; the others are arguments.
 var forms = [...]struct{ op, kids, blocks int }{
@@ -42,7 +45,10 @@ var forms = [...]struct{ op, kids, blocks int }{
 
 // canBeWritten tells whether an expression has a kind that there is, and as many kids and arms as that may have.
 func canBeWritten(e *api.Expr) bool {
-	if e.Kind < 0 || e.Kind >= len(forms) || !isCount(len(e.Kids), forms[e.Kind].kids) {
+	if e.Kind < 0 || e.Kind >= len(forms) {
+		return false
+	}
+	if kids := forms[e.Kind].kids; kids != many && kids != len(e.Kids) {
 		return false
 	}
 	if e.Kind == api.ETuple && len(e.Kids) < 2 {
@@ -93,7 +99,7 @@ func (w *writer) step(e *api.Expr) int {
 	case api.ECall:
 		s.Types = w.copies(e.Inst)
 	}
-	if w.enter(1, w.depth) {
+	if w.Enter(1, w.depth) {
 		w.steps = append(w.steps, s)
 	}
 	return s.Out
@@ -159,7 +165,7 @@ func (w *writer) cases(e *api.Expr) []api.Block {
 func (w *writer) handle(e *api.Expr) []api.Block {
 	body := w.block(&e.Kids[0])
 	value := w.fresh()
-	w.enter(1, w.depth+1)
+	w.Enter(1, w.depth+1)
 	out := []api.Block{body, {Bind: []int{value}, Value: value}}
 	for i := range e.Arms {
 		arm := &e.Arms[i]

@@ -4,6 +4,8 @@ import (
 	"slices"
 
 	"heriot/api"
+	"heriot/outline"
+	"heriot/stack"
 )
 
 // Beyond these bounds nothing is promised: the document's are 2^31 - 1 bytes in all, and 2^16 levels. They end the writing of trees that have themselves as a part.
@@ -15,20 +17,20 @@ const (
 // writer writes a program in steps. What is too big it goes through to its end, since an expression that can't be written is found first, but it writes no more of it.
 type writer struct {
 	*api.Typed
-	meter
+	outline.Meter
 	funs   map[string]int
 	exns   map[string]int
-	cons   []map[string]int       // for each data type
-	names  map[string]*stack[int] // the variables that a name stands for, the innermost last
-	next   int                    // the next variable
-	depth  int                    // of the blocks that are being written
-	steps  []api.Step             // of the innermost of them
+	cons   []map[string]int          // for each data type
+	names  map[string]*stack.Of[int] // the variables that a name stands for, the innermost last
+	next   int                       // the next variable
+	depth  int                       // of the blocks that are being written
+	steps  []api.Step                // of the innermost of them
 	visits int
 	levels int
 }
 
 func flatten(t *api.Typed) api.Program {
-	w := &writer{Typed: t, meter: meter{left: api.MaxNodes}, exns: numbered(t.Exns)}
+	w := &writer{Typed: t, Meter: outline.NewMeter(api.MaxNodes), exns: numbered(t.Exns)}
 	p := api.Program{Datas: w.datas(), Exns: slices.Clone(t.Exns), Main: t.Main}
 	var names []string
 	for i := range t.Funs {
@@ -38,7 +40,7 @@ func flatten(t *api.Typed) api.Program {
 	for i := range t.Funs {
 		p.Funs = append(p.Funs, w.function(&t.Funs[i]))
 	}
-	if w.big {
+	if w.IsBig() {
 		panic(api.ErrBig)
 	}
 	return p
@@ -83,7 +85,7 @@ func (w *writer) copyOf(t *api.Type, depth int) api.Type {
 	out := *t
 	out.Args = nil
 	out.Effect = api.Effect{Regions: slices.Clone(t.Effect.Regions), Vars: slices.Clone(t.Effect.Vars)}
-	if !w.enter(1, depth) {
+	if !w.Enter(1, depth) {
 		return out
 	}
 	for i := range t.Args {
@@ -94,9 +96,9 @@ func (w *writer) copyOf(t *api.Type, depth int) api.Type {
 
 func (w *writer) function(f *api.TypedFun) api.Fun {
 	require(len(f.Params) == len(f.Scheme.Params))
-	w.enter(1, 1)
+	w.Enter(1, 1)
 	out := api.Fun{Name: f.Name, Unit: f.Unit, Types: f.Scheme.Vars, Params: w.copies(f.Scheme.Params), Result: w.copyOf(&f.Scheme.Result, 1)}
-	w.names, w.next = map[string]*stack[int]{}, 0
+	w.names, w.next = map[string]*stack.Of[int]{}, 0
 	w.bind(f.Params)
 	out.Body = w.block(&f.Body)
 	return out
@@ -120,23 +122,23 @@ func (w *writer) fresh() int {
 // open makes a name stand for a variable, up to the next close of that name.
 func (w *writer) open(name string, variable int) {
 	if w.names[name] == nil {
-		w.names[name] = &stack[int]{}
+		w.names[name] = &stack.Of[int]{}
 	}
-	w.names[name].push(variable)
+	w.names[name].Push(variable)
 }
 
-func (w *writer) close(name string) { w.names[name].pop() }
+func (w *writer) close(name string) { w.names[name].Pop() }
 
 func (w *writer) variable(name string) int {
 	found := w.names[name]
 	require(found != nil && len(*found) > 0)
-	return *found.top()
+	return *found.Top()
 }
 
 // block writes the block of an expression, in which some names are bound at its begin.
 func (w *writer) block(e *api.Expr, names ...string) api.Block {
 	w.depth++
-	w.enter(1, w.depth)
+	w.Enter(1, w.depth)
 	around := w.steps
 	w.steps = nil
 	b := api.Block{Bind: w.bind(names)}

@@ -1,6 +1,9 @@
 package flat
 
-import "heriot/api"
+import (
+	"heriot/api"
+	"heriot/outline"
+)
 
 func isA(t *api.Type, kind int) bool { return t.Kind == kind }
 
@@ -52,11 +55,11 @@ func (b *body) isRight(s *api.Step, t []*api.Type) bool {
 	case api.ORaise:
 		return areInts(t) && b.isExn(s.Code)
 	case api.OHandle:
-		return b.isHandle(s.Blocks)
+		return outline.AreArms(s.Blocks, len(b.Exns))
 	case api.OIf:
 		return isA(t[0], api.TBool) && len(s.Blocks[0].Bind) == 0 && len(s.Blocks[1].Bind) == 0
 	case api.OCase:
-		return b.isCase(s.Blocks, t[0])
+		return isA(t[0], api.TData) && outline.AreCases(s.Blocks, &b.Datas[t[0].N])
 	}
 	return areInts(t) && isSimple(s)
 }
@@ -91,30 +94,3 @@ func (b *body) isCall(s *api.Step, args []*api.Type) bool {
 }
 
 func (b *body) isExn(code int) bool { return code >= 0 && code < len(b.Exns) }
-
-func (b *body) isHandle(blocks []api.Block) bool {
-	if len(blocks) < 2 || len(blocks[0].Bind) != 0 || len(blocks[1].Bind) != 1 {
-		return false
-	}
-	ahead := map[int]bool{}
-	for i := range blocks[2:] {
-		arm := &blocks[2+i]
-		if len(arm.Bind) != 1 || !b.isExn(arm.Code) || ahead[arm.Code] {
-			return false
-		}
-		ahead[arm.Code] = true
-	}
-	return true
-}
-
-func (b *body) isCase(blocks []api.Block, t *api.Type) bool {
-	if !isA(t, api.TData) || len(blocks) != len(b.Datas[t.N].Cons) {
-		return false
-	}
-	for i, con := range b.Datas[t.N].Cons {
-		if len(blocks[i].Bind) != len(con.Fields) {
-			return false
-		}
-	}
-	return true
-}

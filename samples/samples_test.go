@@ -7,6 +7,7 @@ import (
 	"heriot/api"
 	"heriot/flat"
 	"heriot/samples"
+	"heriot/steps"
 	"heriot/types"
 	"heriot/words"
 )
@@ -76,5 +77,37 @@ fun main 0 0 0 {} () int [0 int := int #-5; value 0];`
 	}
 	if s[0].Op != api.ONew || s[0].Out != -1 || s[0].Region != 4 || !reflect.DeepEqual(s[3].Keep, []int{0, 3}) || p.Main != 1 || len(p.Exns) != 4 {
 		t.Errorf("%+v", p)
+	}
+}
+
+func TestRegions(t *testing.T) {
+	const count = 200
+	texts, operations := map[string]bool{}, map[int]int{}
+	for number := range count {
+		p := samples.Regions(number)
+		text := samples.Write(p)
+		texts[text] = true
+		if e, spot := steps.Check(p); e != api.OK {
+			t.Errorf("%d: Check: %d %v", number, e, spot)
+		}
+		if samples.Write(samples.Regions(number)) != text || samples.Write(samples.Program(text)) != text {
+			t.Errorf("%d: not the same again", number)
+		}
+		for _, f := range p.Funs {
+			countSteps(&f.Body, operations)
+		}
+	}
+	if len(texts) < count*9/10 || len(operations) < api.OEnd {
+		t.Errorf("%d are different, with the operations %v", len(texts), operations)
+	}
+}
+
+// countSteps counts the steps of a block at all depths, by their operations.
+func countSteps(b *api.Block, operations map[int]int) {
+	for _, s := range b.Steps {
+		operations[s.Op]++
+		for i := range s.Blocks {
+			countSteps(&s.Blocks[i], operations)
+		}
 	}
 }
