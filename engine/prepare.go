@@ -125,7 +125,7 @@ func (l *layout) block(b *api.Block) block {
 }
 
 func (l *layout) step(s *api.Step) step {
-	out := step{op: s.Op, args: l.finds(s.Args), number: s.Int, code: s.Code, touches: touches(s.Op),
+	out := step{op: s.Op, args: l.finds(s.Args), number: s.Int, code: s.Code, touches: outline.Reads(s.Op),
 		region: s.Region, regions: s.Regions, modes: s.Modes, keep: s.Keep}
 	for i := range s.Blocks {
 		l.at = append(l.at, i)
@@ -147,13 +147,4 @@ func (l *layout) inner(s *api.Step) *routine {
 	own.regions = l.handles[s]
 	own.body = own.block(&s.Blocks[0])
 	return own.routine
-}
-
-// touches tells whether steps touch the cell of their first argument.
-func touches(op int) bool {
-	switch op {
-	case api.OGet, api.ODeref, api.OSet, api.OAt, api.OPut, api.OLen, api.OApply, api.OCase:
-		return true
-	}
-	return false
 }

@@ -124,3 +124,16 @@ func AreCases(blocks []api.Block, d *api.Data) bool {
 	}
 	return true
 }
+
+// IsBelow tells whether a number is one of so many, from 0 on.
+func IsBelow(n, bound int) bool { return n >= 0 && n < bound }
+
+// IsRising tells whether numbers rise, and are below a bound.
+func IsRising(list []int, bound int) bool {
+	for i, n := range list {
+		if !IsBelow(n, bound) || i > 0 && n <= list[i-1] {
+			return false
+		}
+	}
+	return true
+}

@@ -10,7 +10,9 @@ import (
 func (c *composer) act(s *scene) {
 	switch c.below(14) {
 	case 0, 1:
-		c.begin(s)
+		if !c.isFlat {
+			c.begin(s)
+		}
 	case 2:
 		if len(s.mine) > 0 && c.below(2) == 0 {
 			c.end(s)
@@ -88,7 +90,7 @@ func (c *composer) create(s *scene, t api.Type) int {
 	case api.TArrow:
 		step.Op = api.OFn
 		within := s.inner(nil)
-		within.room, within.live = room{true, s.within(t.Effect)}, nil
+		within.room, within.live = room{s.isFlat, true, s.within(t.Effect)}, nil
 		step.Blocks = []api.Block{c.block(within, t.Args[1], t.Args[0])}
 	}
 	return c.add(s, step)
@@ -270,10 +272,14 @@ func (c *composer) call(s *scene) {
 	for range f.Effects {
 		step.Effects = append(step.Effects, c.someEffect(s))
 	}
-	for _, t := range f.Params {
-		step.Args = append(step.Args, c.need(s, standing(t, step.Types, step.Regions, step.Effects)))
+	regions := step.Regions
+	if c.isFlat {
+		regions = []int{0}
 	}
-	step.Type = standing(f.Result, step.Types, step.Regions, step.Effects)
+	for _, t := range f.Params {
+		step.Args = append(step.Args, c.need(s, standing(t, step.Types, regions, step.Effects)))
+	}
+	step.Type = standing(f.Result, step.Types, regions, step.Effects)
 	for _, formal := range f.Touch.Regions {
 		r := step.Regions[formal]
 		mode := api.Keep

@@ -10,14 +10,18 @@ import (
 // declared is what all region programs by chance have ahead of their functions.
 const declared = `data list 1 = Nil | Cons v0 (d0 v0 @0 {e0}); data color 0 = Red | Green; data doer 0 = Do (-> int int @0 {e0}) | Wait int; exn no; exn why;`
 
+// declaredFlat are the same data types for flat programs.
+const declaredFlat = `data list 1 = Nil | Cons v0 (d0 v0); data color 0 = Red | Green; data doer 0 = Do (-> int int) | Wait int;`
+
 // variable is a variable that is in scope.
 type variable struct {
 	number int
 	is     api.Type
 }
 
-// room is the function or the lambda whose steps are made: what it may touch beside what it owns.
+// room is the function or the lambda whose steps are made: what it may touch beside what it owns; in a flat program that does not matter.
 type room struct {
+	isFlat   bool
 	isLambda bool
 	may      api.Effect
 }
@@ -32,10 +36,11 @@ type scene struct {
 	steps   []api.Step
 }
 
-// composer makes region programs by chance, which the checker takes.
+// composer makes region programs by chance, which the checker takes; or flat programs.
 type composer struct {
 	chance
 	api.Program
+	isFlat bool
 	fun    *api.Fun
 	next   int // the next variable
 	local  int // the next local
@@ -43,22 +48,66 @@ type composer struct {
 	inside int // how many blocks are around
 }
 
-// Regions gives a region program, another one for each number; main has two parameters.
+// Regions gives a region program, another one for each number; main has two parameters. Functions call those ahead and themselves.
 func Regions(number int) api.Program {
-	c := &composer{chance: chance{uint64(number)*0x9e3779b97f4a7c15 + 1}, Program: Program(declared)}
+	c := newComposer(number)
 	for i := range 2 + c.below(4) {
-		c.compose(c.signature("f" + strconv.Itoa(i)))
+		c.compose(c.declare(c.signature("f" + strconv.Itoa(i))))
 	}
+	return c.whole()
+}
+
+// Mutual gives a region program as Regions does, but its functions call each other as they like.
+func Mutual(number int) api.Program {
+	c := newComposer(number)
+	for i := range 2 + c.below(3) {
+		c.declare(c.signature("f" + strconv.Itoa(i)))
+	}
+	for i := range c.Funs {
+		c.compose(i)
+	}
+	return c.whole()
+}
+
+// Flat gives a flat program with many closures, another one for each number. Functions call each other as they like; main has two parameters.
+func Flat(number int) api.Program {
+	c := newComposer(number)
+	c.isFlat = true
+	c.Datas = Program(declaredFlat).Datas
+	for i := range 1 + c.below(3) {
+		c.declare(c.signature("f" + strconv.Itoa(i)))
+	}
+	for i := range c.Funs {
+		c.compose(i)
+	}
+	return c.whole()
+}
+
+func newComposer(number int) *composer {
+	return &composer{chance: chance{uint64(number)*0x9e3779b97f4a7c15 + 1}, Program: Program(declared)}
+}
+
+// whole is the program with a main, which may call itself.
+func (c *composer) whole() api.Program {
 	whole := api.Type{}
-	c.compose(api.Fun{Name: "main", Params: []api.Type{whole, whole}, Result: whole})
-	c.Main = len(c.Funs) - 1
+	c.Main = c.declare(api.Fun{Name: "main", Params: []api.Type{whole, whole}, Result: whole})
+	c.compose(c.Main)
 	return c.Program
+}
+
+// declare adds a function without a body to the program, and gives its number.
+func (c *composer) declare(f api.Fun) int {
+	c.Funs = append(c.Funs, f)
+	return len(c.Funs) - 1
 }
 
 // signature makes a function without a body.
 func (c *composer) signature(name string) api.Fun {
-	f := api.Fun{Name: name, Types: c.below(2), Regions: c.below(4), Effects: c.below(2)}
-	s := &scene{regions: upTo(f.Regions), live: upTo(f.Regions)}
+	f := api.Fun{Name: name, Types: c.below(2)}
+	if !c.isFlat {
+		f.Regions, f.Effects = c.below(4), c.below(2)
+	}
+	s := &scene{room: room{isFlat: c.isFlat}, regions: upTo(f.Regions), live: upTo(f.Regions)}
 	s.may.Vars = upTo(f.Effects)
 	c.fun = &f
 	for range 1 + c.below(3) {
@@ -87,17 +136,17 @@ func (c *composer) some(list []int) []int {
 	return slices.DeleteFunc(slices.Clone(list), func(int) bool { return c.below(3) > 0 })
 }
 
-// compose makes the body of a function, and adds it to the program.
-func (c *composer) compose(f api.Fun) {
-	c.Funs = append(c.Funs, f)
-	c.fun = &c.Funs[len(c.Funs)-1]
+// compose makes the body of a function.
+func (c *composer) compose(number int) {
+	c.fun = &c.Funs[number]
+	f := c.fun
 	c.next, c.local, c.left, c.inside = len(f.Params), f.Regions, 30, 0
-	s := &scene{room: room{may: f.Touch}, regions: upTo(f.Regions), live: slices.Clone(f.Touch.Regions), mine: slices.Clone(f.Touch.Regions)}
+	s := &scene{room: room{isFlat: c.isFlat, may: f.Touch}, regions: upTo(f.Regions), live: slices.Clone(f.Touch.Regions), mine: slices.Clone(f.Touch.Regions)}
 	for i, t := range f.Params {
 		s.scope = append(s.scope, variable{i, t})
 	}
 	body := c.block(s, f.Result)
-	c.fun.Body = body
+	f.Body = body
 }
 
 // touchable are the regions that a step may touch.
@@ -112,7 +161,7 @@ func (s *scene) touchable() []int {
 
 func (s *scene) canTouch(regions ...int) bool {
 	all := s.touchable()
-	return !slices.ContainsFunc(regions, func(r int) bool { return !slices.Contains(all, r) })
+	return s.isFlat || !slices.ContainsFunc(regions, func(r int) bool { return !slices.Contains(all, r) })
 }
 
 // canTouchAll tells whether an effect may be touched.
@@ -140,6 +189,9 @@ func (c *composer) someEffect(s *scene) api.Effect {
 // someType is a type, in regions that may be touched.
 func (c *composer) someType(s *scene, depth int) api.Type {
 	all := s.touchable()
+	if s.isFlat {
+		all = []int{0}
+	}
 	if depth == 0 || len(all) == 0 || c.below(3) == 0 {
 		if c.fun.Types > 0 && c.below(4) == 0 {
 			return api.Type{Kind: api.TVar, N: c.below(c.fun.Types)}
@@ -151,7 +203,11 @@ func (c *composer) someType(s *scene, depth int) api.Type {
 	}
 	t := api.Type{Region: all[c.below(len(all))]}
 	part := func() api.Type { return c.someType(s, depth-1) }
-	switch c.below(7) {
+	kind := c.below(7)
+	if s.isFlat && c.below(2) == 0 {
+		kind = 3
+	}
+	switch kind {
 	case 0, 1:
 		t.Kind, t.Args = api.TTuple, []api.Type{part(), part()}
 	case 2:

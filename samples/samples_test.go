@@ -81,16 +81,23 @@ fun main 0 0 0 {} () int [0 int := int #-5; value 0];`
 }
 
 func TestRegions(t *testing.T) {
+	checkRegions(t, samples.Regions)
+	checkRegions(t, samples.Mutual)
+}
+
+// checkRegions looks at region programs by chance, each of which is made again.
+func checkRegions(t *testing.T, make func(int) api.Program) {
+	t.Helper()
 	const count = 200
 	texts, operations := map[string]bool{}, map[int]int{}
 	for number := range count {
-		p := samples.Regions(number)
+		p := make(number)
 		text := samples.Write(p)
 		texts[text] = true
 		if e, spot := steps.Check(p); e != api.OK {
 			t.Errorf("%d: Check: %d %v", number, e, spot)
 		}
-		if samples.Write(samples.Regions(number)) != text || samples.Write(samples.Program(text)) != text {
+		if samples.Write(make(number)) != text || samples.Write(samples.Program(text)) != text {
 			t.Errorf("%d: not the same again", number)
 		}
 		for _, f := range p.Funs {
@@ -109,5 +116,27 @@ func countSteps(b *api.Block, operations map[int]int) {
 		for i := range s.Blocks {
 			countSteps(&s.Blocks[i], operations)
 		}
+	}
+}
+
+func TestFlat(t *testing.T) {
+	const count = 200
+	texts, operations := map[string]bool{}, map[int]int{}
+	for number := range count {
+		p := samples.Flat(number)
+		text := samples.Write(p)
+		texts[text] = true
+		if e := flat.Valid(p); e != api.OK {
+			t.Errorf("%d: Valid: %d", number, e)
+		}
+		if samples.Write(samples.Flat(number)) != text || samples.Write(samples.Program(text)) != text {
+			t.Errorf("%d: not the same again", number)
+		}
+		for _, f := range p.Funs {
+			countSteps(&f.Body, operations)
+		}
+	}
+	if len(texts) < count*9/10 || len(operations) < api.ONew-1 || operations[api.ONew] > 0 {
+		t.Errorf("%d are different, with the operations %v", len(texts), operations)
 	}
 }

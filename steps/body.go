@@ -102,7 +102,7 @@ func (b *body) block(in *api.Block, want *api.Type, binds []*api.Type) *api.Type
 	}
 	t := b.typeOf(in.Value)
 	b.require(!b.isOfHere(t), api.ErrResult)
-	b.require(want == nil || areSame(t, want), api.ErrType)
+	b.require(want == nil || outline.AreSame(t, want), api.ErrType)
 	for len(b.scope) > variables {
 		delete(b.types, b.scope.Pop())
 	}
@@ -114,7 +114,7 @@ func (b *body) block(in *api.Block, want *api.Type, binds []*api.Type) *api.Type
 
 // isOfHere tells whether a type mentions a region that begins in the block where one is.
 func (b *body) isOfHere(t *api.Type) bool {
-	if hasRegion(t.Kind) && b.isBegunHere(t.Region) || slices.ContainsFunc(t.Effect.Regions, b.isBegunHere) {
+	if outline.HasRegion(t.Kind) && b.isBegunHere(t.Region) || slices.ContainsFunc(t.Effect.Regions, b.isBegunHere) {
 		return true
 	}
 	for i := range t.Args {

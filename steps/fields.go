@@ -22,7 +22,7 @@ func (p shaped) isRight(s *api.Step) bool {
 	case api.OGet:
 		return s.Int >= 0
 	case api.OCall:
-		return isBelow(s.Code, len(p.Funs)) && p.isCall(s, &p.Funs[s.Code])
+		return outline.IsBelow(s.Code, len(p.Funs)) && p.isCall(s, &p.Funs[s.Code])
 	case api.OFn:
 		return out == api.TArrow && s.Region == s.Type.Region && len(s.Blocks[0].Bind) == 1
 	case api.ORef:
@@ -30,9 +30,9 @@ func (p shaped) isRight(s *api.Step) bool {
 	case api.OArray:
 		return out == api.TArray && s.Region == s.Type.Region
 	case api.ORaise:
-		return isBelow(s.Code, len(p.Exns))
+		return outline.IsBelow(s.Code, len(p.Exns))
 	case api.OHandle:
-		return isRising(s.Keep, api.MaxNodes) && outline.AreArms(s.Blocks, len(p.Exns))
+		return outline.IsRising(s.Keep, api.MaxNodes) && outline.AreArms(s.Blocks, len(p.Exns))
 	case api.OIf:
 		return len(s.Blocks[0].Bind) == 0 && len(s.Blocks[1].Bind) == 0
 	case api.OCase:
@@ -43,7 +43,7 @@ func (p shaped) isRight(s *api.Step) bool {
 
 func (p shaped) isMake(s *api.Step) bool {
 	cons := p.Datas[s.Type.N].Cons
-	if !isBelow(s.Code, len(cons)) || len(s.Args) != len(cons[s.Code].Fields) {
+	if !outline.IsBelow(s.Code, len(cons)) || len(s.Args) != len(cons[s.Code].Fields) {
 		return false
 	}
 	if len(s.Args) == 0 {

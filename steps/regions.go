@@ -53,32 +53,11 @@ func (o *owner) own(b *api.Block, formals int) {
 
 // touched is what a step touches.
 func (b *body) touched(s *api.Step, args []*api.Type) api.Effect {
-	switch s.Op {
-	case api.OFn:
-		return regionsOf(append(slices.Clone(b.handles[s]), s.Region)...)
-	case api.OGet, api.ODeref, api.OSet, api.OAt, api.OPut, api.OLen:
-		return regionsOf(args[0].Region)
-	case api.OCase:
-		if hasCells(&b.Datas[args[0].N]) {
-			return regionsOf(args[0].Region)
-		}
-	case api.OApply:
-		e := args[0].Effect
-		return api.Effect{Regions: append(slices.Clone(e.Regions), args[0].Region), Vars: e.Vars}
-	case api.OCall:
-		return instance{s.Types, s.Regions, s.Effects}.effect(&b.Funs[s.Code].Touch)
+	var of *api.Type
+	if len(args) > 0 {
+		of = args[0]
 	}
-	if outline.Needs(s) {
-		return regionsOf(s.Region)
-	}
-	return api.Effect{}
-}
-
-func regionsOf(list ...int) api.Effect { return api.Effect{Regions: list} }
-
-// hasCells tells whether one of the constructors of a data type has fields.
-func hasCells(d *api.Data) bool {
-	return slices.ContainsFunc(d.Cons, func(c api.Con) bool { return len(c.Fields) > 0 })
+	return outline.Touched(b.Program, s, of, b.handles[s])
 }
 
 // checkRegions looks at what a step touches and consumes, and consumes that.

@@ -9,7 +9,7 @@ func isA(t *api.Type, kind int) bool { return t.Kind == kind }
 
 // isOf tells whether a type is the ref, or the array, of another one.
 func isOf(t *api.Type, kind int, part *api.Type) bool {
-	return t.Kind == kind && areSame(&t.Args[0], part)
+	return t.Kind == kind && outline.AreSame(&t.Args[0], part)
 }
 
 // isTyped tells whether a step, with its arguments of these types, has the types that its operation asks for.
@@ -17,24 +17,24 @@ func (b *body) isTyped(s *api.Step, t []*api.Type) bool {
 	out := &s.Type
 	switch s.Op {
 	case api.OMake:
-		return at(out).allFit(t, b.Datas[out.N].Cons[s.Code].Fields)
+		return outline.At(out).AllFit(t, b.Datas[out.N].Cons[s.Code].Fields)
 	case api.OTuple:
 		return areParts(t, out.Args)
 	case api.OGet:
-		return isA(t[0], api.TTuple) && s.Int < int64(len(t[0].Args)) && areSame(&t[0].Args[s.Int], out)
+		return isA(t[0], api.TTuple) && s.Int < int64(len(t[0].Args)) && outline.AreSame(&t[0].Args[s.Int], out)
 	case api.OCall:
-		f, in := &b.Funs[s.Code], instance{s.Types, s.Regions, s.Effects}
-		return in.allFit(t, f.Params) && in.fits(out, &f.Result)
+		f, in := &b.Funs[s.Code], outline.Of(s)
+		return in.AllFit(t, f.Params) && in.Fits(out, &f.Result)
 	case api.OApply:
-		return isA(t[0], api.TArrow) && areSame(&t[0].Args[0], t[1]) && areSame(&t[0].Args[1], out)
+		return isA(t[0], api.TArrow) && outline.AreSame(&t[0].Args[0], t[1]) && outline.AreSame(&t[0].Args[1], out)
 	case api.ORef:
-		return areSame(&out.Args[0], t[0])
+		return outline.AreSame(&out.Args[0], t[0])
 	case api.ODeref:
 		return isOf(t[0], api.TRef, out)
 	case api.OSet:
 		return isOf(t[0], api.TRef, t[1]) && isA(out, api.TUnit)
 	case api.OArray:
-		return isA(t[0], api.TInt) && areSame(&out.Args[0], t[1])
+		return isA(t[0], api.TInt) && outline.AreSame(&out.Args[0], t[1])
 	case api.OAt:
 		return isOf(t[0], api.TArray, out) && isA(t[1], api.TInt)
 	case api.OPut:
@@ -60,7 +60,7 @@ func (b *body) isTyped(s *api.Step, t []*api.Type) bool {
 // areParts tells whether types are the parts of a tuple, of which there are as many.
 func areParts(t []*api.Type, parts []api.Type) bool {
 	for i := range parts {
-		if !areSame(t[i], &parts[i]) {
+		if !outline.AreSame(t[i], &parts[i]) {
 			return false
 		}
 	}
@@ -74,10 +74,10 @@ func (b *body) bindsOf(s *api.Step, args []*api.Type) [][]*api.Type {
 	case api.OFn:
 		out[0] = []*api.Type{&s.Type.Args[0]}
 	case api.OCase:
-		in := at(args[0])
+		in := outline.At(args[0])
 		for i, con := range b.Datas[args[0].N].Cons {
 			for j := range con.Fields {
-				t := in.written(&con.Fields[j])
+				t := in.Written(&con.Fields[j])
 				b.require(!outline.IsTooLarge(&t), api.ErrBig)
 				out[i] = append(out[i], &t)
 			}

@@ -1,6 +1,9 @@
 package steps
 
-import "heriot/api"
+import (
+	"heriot/api"
+	"heriot/outline"
+)
 
 // scoped asks what a step names to be in scope, and what it binds to be new; and gives the types of its arguments.
 func (b *body) scoped(s *api.Step) []*api.Type {
@@ -43,7 +46,7 @@ func (b *body) isInScope(s *api.Step) bool {
 }
 
 func (b *body) isTypeHere(t *api.Type) bool {
-	if t.Kind == api.TVar && t.N >= b.fun.Types || hasRegion(t.Kind) && !b.isRegion(t.Region) || !b.isEffectHere(&t.Effect) {
+	if t.Kind == api.TVar && t.N >= b.fun.Types || outline.HasRegion(t.Kind) && !b.isRegion(t.Region) || !b.isEffectHere(&t.Effect) {
 		return false
 	}
 	for i := range t.Args {

@@ -47,7 +47,7 @@ func (p shaped) areDatas() bool {
 
 // isField tells whether all effects in a type are those of a field: the data type's own.
 func isField(t *api.Type) bool {
-	if hasEffect(t.Kind) && (len(t.Effect.Regions) > 0 || len(t.Effect.Vars) != 1) {
+	if outline.HasEffect(t.Kind) && (len(t.Effect.Regions) > 0 || len(t.Effect.Vars) != 1) {
 		return false
 	}
 	for i := range t.Args {
@@ -76,7 +76,7 @@ func (p shaped) areFuns() bool {
 func isUpTo(count int) bool { return count >= 0 && count <= api.MaxNodes }
 
 func (p shaped) isMain() bool {
-	if !isBelow(p.Main, len(p.Funs)) {
+	if !outline.IsBelow(p.Main, len(p.Funs)) {
 		return false
 	}
 	f := &p.Funs[p.Main]
@@ -88,19 +88,14 @@ func (p shaped) isMain() bool {
 	return f.Types == 0 && f.Regions == 0 && f.Effects == 0 && len(f.Params) <= api.MaxArgs && f.Result.Kind == api.TInt
 }
 
-func hasEffect(kind int) bool { return kind == api.TData || kind == api.TArrow }
-
-// hasRegion tells whether types of a kind lie in a region.
-func hasRegion(kind int) bool { return kind >= api.TData }
-
 func (in bounds) isType(t *api.Type) bool {
 	if !outline.HasParts(t, in.datas) || t.Kind == api.TVar && in.vars != unbound && t.N >= in.vars {
 		return false
 	}
-	if !hasRegion(t.Kind) && t.Region != 0 || !isBelow(t.Region, in.regions) && hasRegion(t.Kind) {
+	if !outline.HasRegion(t.Kind) && t.Region != 0 || !outline.IsBelow(t.Region, in.regions) && outline.HasRegion(t.Kind) {
 		return false
 	}
-	if !hasEffect(t.Kind) && len(t.Effect.Regions)+len(t.Effect.Vars) > 0 || !in.isEffect(&t.Effect) {
+	if !outline.HasEffect(t.Kind) && len(t.Effect.Regions)+len(t.Effect.Vars) > 0 || !in.isEffect(&t.Effect) {
 		return false
 	}
 	return in.areTypes(t.Args)
@@ -115,21 +110,9 @@ func (in bounds) areTypes(list []api.Type) bool {
 	return true
 }
 
-func isBelow(n, bound int) bool { return n >= 0 && n < bound }
-
 func areBelow(list []int, bound int) bool {
 	for _, n := range list {
-		if !isBelow(n, bound) {
-			return false
-		}
-	}
-	return true
-}
-
-// isRising tells whether numbers rise, and are below a bound.
-func isRising(list []int, bound int) bool {
-	for i, n := range list {
-		if !isBelow(n, bound) || i > 0 && n <= list[i-1] {
+		if !outline.IsBelow(n, bound) {
 			return false
 		}
 	}
@@ -137,7 +120,7 @@ func isRising(list []int, bound int) bool {
 }
 
 func (in bounds) isEffect(e *api.Effect) bool {
-	return isRising(e.Regions, in.regions) && isRising(e.Vars, in.effects)
+	return outline.IsRising(e.Regions, in.regions) && outline.IsRising(e.Vars, in.effects)
 }
 
 // isBody tells whether a function's block is shaped: it binds nothing, and is no handle's arm.
@@ -147,7 +130,7 @@ func (p shaped) isBody(b *api.Block) bool {
 
 // isBlock tells whether a block is shaped, but for its Code and how many variables it binds.
 func (p shaped) isBlock(b *api.Block) bool {
-	if !areBelow(b.Bind, api.MaxNodes) || !isBelow(b.Value, api.MaxNodes) {
+	if !areBelow(b.Bind, api.MaxNodes) || !outline.IsBelow(b.Value, api.MaxNodes) {
 		return false
 	}
 	for i := range b.Steps {
@@ -166,7 +149,7 @@ func (p shaped) isStep(s *api.Step) bool {
 	if !outline.IsShaped(s) || !areBelow(s.Args, api.MaxNodes) || !p.inSteps().isType(&s.Type) {
 		return false
 	}
-	if !isOut(s) || !p.isRight(s) || !isBelow(s.Region, api.MaxNodes) {
+	if !isOut(s) || !p.isRight(s) || !outline.IsBelow(s.Region, api.MaxNodes) {
 		return false
 	}
 	for i := range s.Blocks {
@@ -185,5 +168,5 @@ func isOut(s *api.Step) bool {
 	if s.Op == api.ONew || s.Op == api.OEnd {
 		return s.Out == -1 && s.Type.Kind == api.TInt
 	}
-	return isBelow(s.Out, api.MaxNodes)
+	return outline.IsBelow(s.Out, api.MaxNodes)
 }

@@ -1,0 +1,156 @@
+package place
+
+import (
+	"slices"
+
+	"heriot/api"
+	"heriot/outline"
+	"heriot/stack"
+)
+
+// placer places a program.
+type placer struct {
+	*api.Program
+	fields  [][][]*dressed // the patterns of the fields of constructors
+	done    map[int]*signature
+	working map[int]*function // the functions of the group that is worked on, if one of them calls another one or itself
+}
+
+// group are functions that are worked on together.
+type group struct {
+	*placer
+	functions []*function
+	merges    stack.Of[merge]
+	facts     []fact
+}
+
+func newPlacer(p *api.Program) *placer {
+	out := &placer{Program: p, done: map[int]*signature{}}
+	for _, d := range p.Datas {
+		var cons [][]*dressed
+		for _, c := range d.Cons {
+			var fields []*dressed
+			for i := range c.Fields {
+				fields = append(fields, field(&c.Fields[i]))
+			}
+			cons = append(cons, fields)
+		}
+		out.fields = append(out.fields, cons)
+	}
+	return out
+}
+
+// grouper finds the groups of a program's functions.
+type grouper struct {
+	calls  [][]int
+	found  []int // when a function was found, from 1 on
+	count  int
+	open   stack.Of[int] // the functions that are found and belong to no group yet
+	isOpen map[int]bool
+	groups [][]int // each behind those that its functions call
+}
+
+// groupsOf are the groups of some functions, by their numbers.
+func groupsOf(p *api.Program, numbers []int) [][]int {
+	g := &grouper{calls: make([][]int, len(p.Funs)), found: make([]int, len(p.Funs)), isOpen: map[int]bool{}}
+	for _, n := range numbers {
+		g.calls[n] = calleesOf(&p.Funs[n])
+	}
+	for _, n := range numbers {
+		if g.found[n] == 0 {
+			g.visit(n)
+		}
+	}
+	return g.groups
+}
+
+func calleesOf(f *api.Fun) []int {
+	var out []int
+	for _, s := range outline.Steps(&f.Body) {
+		if s.Op == api.OCall {
+			out = append(out, s.Code)
+		}
+	}
+	slices.Sort(out)
+	return slices.Compact(out)
+}
+
+// visit finds what a function calls, and gives the first one of the functions that it comes back to.
+func (g *grouper) visit(n int) int {
+	g.count++
+	own := g.count
+	first := own
+	g.found[n] = own
+	g.open.Push(n)
+	g.isOpen[n] = true
+	for _, callee := range g.calls[n] {
+		if g.found[callee] == 0 {
+			first = min(first, g.visit(callee))
+		} else if g.isOpen[callee] {
+			first = min(first, g.found[callee])
+		}
+	}
+	if first == own {
+		g.close(n)
+	}
+	return first
+}
+
+// close makes a group of all that was found from a function on.
+func (g *grouper) close(n int) {
+	var members []int
+	for len(members) == 0 || members[len(members)-1] != n {
+		m := g.open.Pop()
+		delete(g.isOpen, m)
+		members = append(members, m)
+	}
+	slices.Sort(members)
+	g.groups = append(g.groups, members)
+}
+
+// placeAll gives some functions their regions, and gives them by their numbers.
+func (p *placer) placeAll(numbers []int) []api.Fun {
+	for _, members := range groupsOf(p.Program, numbers) {
+		p.placeGroup(members)
+	}
+	var out []api.Fun
+	for _, n := range numbers {
+		out = append(out, *p.done[n].Fun)
+	}
+	return out
+}
+
+// placeGroup works on a group whose callees are done.
+func (p *placer) placeGroup(members []int) {
+	g := &group{placer: p}
+	p.working = map[int]*function{}
+	for _, n := range members {
+		f := &function{group: g, number: n, flat: &p.Funs[n], types: map[int]*dressed{}, late: map[int]bound{}}
+		g.functions = append(g.functions, f)
+		if len(members) > 1 || slices.Contains(calleesOf(f.flat), n) {
+			p.working[n] = f
+		}
+	}
+	g.all((*function).lay)
+	g.all(func(f *function) { f.each(f.link) })
+	g.all(func(f *function) {
+		f.each(f.ask)
+		f.same(f.value(f.body), f.result)
+	})
+	g.spread()
+	g.all((*function).compact)
+	g.all((*function).begin)
+	g.all(func(f *function) { f.each(f.observe) })
+	g.settle()
+	g.all((*function).writeHead)
+	g.all((*function).writeBody)
+	for _, f := range g.functions {
+		p.done[f.number] = f.sign
+	}
+}
+
+func (g *group) all(do func(*function)) {
+	for _, f := range g.functions {
+		do(f)
+	}
+}
