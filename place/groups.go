@@ -42,19 +42,23 @@ func newPlacer(p *api.Program) *placer {
 
 // grouper finds the groups of a program's functions.
 type grouper struct {
-	calls  [][]int
-	found  []int // when a function was found, from 1 on
+	calls  [][]int // of each function that is worked on, those that are, too
+	found  []int   // when a function was found, from 1 on
 	count  int
 	open   stack.Of[int] // the functions that are found and belong to no group yet
 	isOpen map[int]bool
 	groups [][]int // each behind those that its functions call
 }
 
-// groupsOf are the groups of some functions, by their numbers.
+// groupsOf are the groups of some functions, by their numbers, which rise. What others they call has a signature already, so that no group has it.
 func groupsOf(p *api.Program, numbers []int) [][]int {
 	g := &grouper{calls: make([][]int, len(p.Funs)), found: make([]int, len(p.Funs)), isOpen: map[int]bool{}}
+	isOther := func(n int) bool {
+		_, ok := slices.BinarySearch(numbers, n)
+		return !ok
+	}
 	for _, n := range numbers {
-		g.calls[n] = calleesOf(&p.Funs[n])
+		g.calls[n] = slices.DeleteFunc(calleesOf(&p.Funs[n]), isOther)
 	}
 	for _, n := range numbers {
 		if g.found[n] == 0 {
@@ -108,7 +112,7 @@ func (g *grouper) close(n int) {
 	g.groups = append(g.groups, members)
 }
 
-// placeAll gives some functions their regions, and gives them by their numbers.
+// placeAll gives some functions their regions, and gives them by their numbers, which rise. All others that they call are done.
 func (p *placer) placeAll(numbers []int) []api.Fun {
 	for _, members := range groupsOf(p.Program, numbers) {
 		p.placeGroup(members)

@@ -67,16 +67,45 @@ func (w *worn) at() path { return append(slices.Clone(w.block), w.index) }
 func judged(p api.Program) api.Program { return judgedWith(p, nil) }
 
 func judgedWith(p api.Program, more func(*attempt)) api.Program {
-	j := &judge{Program: p, heads: make([]*head, len(p.Funs)), out: make([]api.Fun, len(p.Funs)), more: more}
+	j := newJudge(p)
+	j.more = more
+	j.work(0, len(p.Funs))
+	out := api.Program{Exns: p.Exns, Funs: j.out, Main: p.Main}
+	for _, d := range p.Datas {
+		own := api.Data{Name: d.Name, Vars: d.Vars}
+		for _, c := range d.Cons {
+			own.Cons = append(own.Cons, api.Con{Name: c.Name, Fields: each(c.Fields, withZero)})
+		}
+		out.Datas = append(out.Datas, own)
+	}
+	return out
+}
+
+// judgedUnit is what PlaceUnit has to make of the functions up to a number, by the signatures of all ahead of them.
+func judgedUnit(p api.Program, ahead []api.Fun, to int) []api.Fun {
+	j := newJudge(p)
+	for fn, f := range ahead {
+		j.heads[fn] = &head{Fun: f}
+	}
+	j.work(len(ahead), to)
+	return j.out[len(ahead):to]
+}
+
+func newJudge(p api.Program) *judge {
+	return &judge{Program: p, heads: make([]*head, len(p.Funs)), out: make([]api.Fun, len(p.Funs))}
+}
+
+// work works on the functions from a number up to another one.
+func (j *judge) work(begin, to int) {
 	reach := j.reach()
-	for done := 0; done < len(p.Funs); {
-		for fn := range p.Funs {
+	for done := begin; done < to; {
+		for fn := begin; fn < to; fn++ {
 			if j.heads[fn] != nil {
 				continue
 			}
 			var group []int
 			isReady := true
-			for other := range p.Funs {
+			for other := range j.Funs {
 				if other == fn || reach[fn][other] && reach[other][fn] {
 					group = append(group, other)
 				} else {
@@ -89,15 +118,6 @@ func judgedWith(p api.Program, more func(*attempt)) api.Program {
 			}
 		}
 	}
-	out := api.Program{Exns: p.Exns, Funs: j.out, Main: p.Main}
-	for _, d := range p.Datas {
-		own := api.Data{Name: d.Name, Vars: d.Vars}
-		for _, c := range d.Cons {
-			own.Cons = append(own.Cons, api.Con{Name: c.Name, Fields: each(c.Fields, withZero)})
-		}
-		out.Datas = append(out.Datas, own)
-	}
-	return out
 }
 
 func each[T, U any](list []T, to func(T) U) []U {

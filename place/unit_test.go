@@ -51,26 +51,30 @@ func checkUnits(t *testing.T, m made) int {
 	return count
 }
 
+// inUnits are programs by chance of several units: those of texts, and such whose functions are given to units.
+func inUnits(t *testing.T, some *rand.Rand, seed int) []made {
+	t.Helper()
+	rising := made{seed: seed, Program: steps.Erase(samples.Regions(seed))}
+	unit := some.Intn(5) - 2
+	for i := range rising.Funs {
+		rising.Funs[i].Unit = unit
+		unit += some.Intn(3)
+	}
+	two := made{seed: seed, Program: samples.Flat(seed)}
+	two.Funs[two.Main].Unit = 1
+	out := []made{rising, two}
+	if p, ok := byTexts(t, seed); ok && seed%8 == 0 {
+		out = append(out, made{seed: seed, Program: p})
+	}
+	return out
+}
+
 // TestUnits: P6.5 (and P7): the units of texts, and of programs whose functions are given to units.
 func TestUnits(t *testing.T) {
 	t.Parallel()
 	count := 0
 	for seed := range 2 * rounds {
-		some := rand.New(rand.NewSource(int64(seed)))
-		m := made{seed: seed, Program: steps.Erase(samples.Regions(seed))}
-		unit := some.Intn(5) - 2
-		for i := range m.Funs {
-			m.Funs[i].Unit = unit
-			unit += some.Intn(3)
-		}
-		count += checkUnits(t, m)
-		m.Program = samples.Flat(seed)
-		for i := range m.Funs {
-			m.Funs[i].Unit = i / (len(m.Funs) - 1)
-		}
-		count += checkUnits(t, m)
-		if p, ok := byTexts(t, seed); ok && seed%8 == 0 {
-			m.Program = p
+		for _, m := range inUnits(t, rand.New(rand.NewSource(int64(seed))), seed) {
 			count += checkUnits(t, m)
 		}
 	}
@@ -155,7 +159,9 @@ func TestHeads(t *testing.T) {
 		{a + b + c, api.OK},
 		// other regions, effects and touches than Place finds
 		{"fun a 0 1 1 {} ((-> int int @0 {0 e0}) (* int int @0)) int [value 0];" + b + c, api.OK},
-		{"fun a 0 1024 1 {0 1023 e0} ((-> int int @1023 {0 e0}) (* int int @5)) int [value 0];" + b + c, api.OK},
+		{"fun a 0 1023 1 {0 1022 e0} ((-> int int @1022 {0 e0}) (* int int @5)) int [value 0];" + b + c, api.OK},
+		// it fits, but main has its regions and the one that b hides
+		{"fun a 0 1024 1 {0 1023 e0} ((-> int int @1023 {0 e0}) (* int int @5)) int [value 0];" + b + c, api.ErrBig},
 		{a + "fun b 0 2 1 {e0} (int) (-> int int @1 {e0}) [value 0];" + c, api.OK},
 		{a + b + "fun c 0 2 1 {0} ((-> int int @0 {e0}) (-> int int @1 {e0}) bool) int [value 0];", api.OK},
 		// names, types
