@@ -72,9 +72,9 @@ func (r *run) known(f *frame, s *step) {
 	own := r.call(callee, f.args(s)...)
 	for i, formal := range callee.touch {
 		if s.modes[i] == api.Last {
-			f.drop(s.regions[formal])
+			f.Drop(s.regions[formal])
 		}
-		own.give(formal, given[i])
+		own.Give(formal, given[i])
 	}
 }
 
@@ -88,7 +88,7 @@ func (r *run) apply(closure *cell, argument value) {
 		f.values[c.to] = closure.parts[i]
 	}
 	for region, h := range closure.handles {
-		f.give(region, h)
+		f.Give(region, h)
 	}
 }
 
@@ -112,7 +112,7 @@ func (r *run) make(f *frame, s *step) {
 }
 
 func (f *frame) closure(of *routine) *cell {
-	out := &cell{routine: of, handles: f.captured(of.regions)}
+	out := &cell{routine: of, handles: f.Captured(of.regions)}
 	for _, c := range of.takes {
 		out.parts = append(out.parts, f.values[c.from])
 	}

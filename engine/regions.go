@@ -1,29 +1,28 @@
 package engine
 
 import (
-	"slices"
-
 	"heriot/api"
+	"heriot/handles"
 )
 
 // begins begins an instance of a region, which the frame owns.
 func (r *run) begins(f *frame, region int) {
 	number := len(r.meter.instances)
 	r.meter.instances = append(r.meter.instances, instance{})
-	f.give(region, handle{number, true})
+	f.Give(region, handles.Handle{Instance: number, Owns: true})
 	r.meter.record(api.VNew, number, 0, 0)
 }
 
 // ends takes a handle away, and ends its instance if the handle owns it.
 func (r *run) ends(f *frame, region int) {
-	h, ok := f.handles[region]
+	h, ok := f.Set[region]
 	if !ok {
 		r.fault = api.FTouch
 		return
 	}
-	f.drop(region)
-	if h.owns {
-		r.meter.end(h.instance)
+	f.Drop(region)
+	if h.Owns {
+		r.meter.end(h.Instance)
 	}
 }
 
@@ -32,14 +31,14 @@ func (r *run) allocate(f *frame, region int, c *cell, words int) bool {
 	if r.meter == nil {
 		return true
 	}
-	h, ok := f.handles[region]
-	if !ok || r.meter.instances[h.instance].ended {
+	h, ok := f.Set[region]
+	if !ok || r.meter.instances[h.Instance].ended {
 		r.fault = api.FTouch
 		return false
 	}
-	c.instance = h.instance
-	r.meter.instances[h.instance].words += words
-	r.meter.record(api.VAlloc, h.instance, words, words)
+	c.instance = h.Instance
+	r.meter.instances[h.Instance].words += words
+	r.meter.record(api.VAlloc, h.Instance, words, words)
 	return true
 }
 
@@ -57,25 +56,15 @@ func (r *run) touch(c *cell) bool {
 }
 
 // given are the handles that a callee gets, one for each formal that it may touch; none and false if the caller has not all of them.
-func (f *frame) given(s *step, callee *routine) ([]handle, bool) {
-	var out []handle
+func (f *frame) given(s *step, callee *routine) ([]handles.Handle, bool) {
+	var out []handles.Handle
 	for i, formal := range callee.touch {
-		h, ok := f.handles[s.regions[formal]]
+		h, ok := f.Set[s.regions[formal]]
 		if !ok {
 			return nil, false
 		}
-		h.owns = h.owns && s.modes[i] == api.Last
+		h.Owns = h.Owns && s.modes[i] == api.Last
 		out = append(out, h)
 	}
 	return out, true
-}
-
-// endAll ends what the handles of a frame own that an exception leaves, but for those of some regions, which rise, and takes these handles away.
-func (m *meter) endAll(f *frame, keep []int) {
-	for _, h := range slices.Backward(f.owned()) {
-		if _, kept := slices.BinarySearch(keep, h.region); !kept {
-			f.drop(h.region)
-			m.end(h.instance)
-		}
-	}
 }

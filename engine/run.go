@@ -4,6 +4,7 @@ import (
 	"slices"
 
 	"heriot/api"
+	"heriot/handles"
 	"heriot/stack"
 )
 
@@ -23,7 +24,7 @@ type run struct {
 
 // frame is a call that is going on. It has its handles' methods.
 type frame struct {
-	handles
+	handles.Set
 	*routine
 	values []value
 	open   stack.Of[place] // the blocks that are being run, the innermost last
@@ -107,12 +108,12 @@ func (r *run) raise(exn int, payload int64) {
 		f := *r.frames.Top()
 		if depth, arm, ok := f.handler(exn); ok {
 			s := f.open[depth].doing()
-			r.meter.endAll(f, s.keep)
+			f.Leave(s.keep, r.meter.end)
 			f.open = f.open[:depth+1]
 			f.branch(s, arm, value{number: payload})
 			return
 		}
-		r.meter.endAll(f, nil)
+		f.Leave(nil, r.meter.end)
 		r.frames.Pop()
 	}
 	r.fault, r.exn, r.payload = api.FExn, exn, payload
@@ -158,9 +159,9 @@ func (r *run) look() []api.Frame {
 	var out []api.Frame
 	for _, f := range r.frames {
 		own := api.Frame{Fun: f.fun, Path: f.spot()}
-		for _, h := range f.owned() {
-			own.Regions = append(own.Regions, h.region)
-			own.Instances = append(own.Instances, h.instance)
+		for _, h := range f.Owned() {
+			own.Regions = append(own.Regions, h.Region)
+			own.Instances = append(own.Instances, h.Instance)
 		}
 		out = append(out, own)
 	}

@@ -2,9 +2,11 @@ package samples_test
 
 import (
 	"reflect"
+	"slices"
 	"testing"
 
 	"heriot/api"
+	"heriot/code"
 	"heriot/flat"
 	"heriot/samples"
 	"heriot/steps"
@@ -138,5 +140,40 @@ func TestFlat(t *testing.T) {
 	}
 	if len(texts) < count*9/10 || len(operations) < api.ONew-1 || operations[api.ONew] > 0 {
 		t.Errorf("%d are different, with the operations %v", len(texts), operations)
+	}
+}
+
+// TestImages: images by chance are different, and have all ops.
+func TestImages(t *testing.T) {
+	const count = 200
+	texts, found := map[string]bool{}, map[int]bool{}
+	for number := range count {
+		text := samples.Image(number)
+		texts[text] = true
+		m, ok := code.ReadImage(samples.Bytes(text))
+		if !ok {
+			t.Fatalf("%d: not well-formed: %s", number, text)
+		}
+		if samples.Image(number) != text {
+			t.Errorf("%d: not the same again", number)
+		}
+		for in := range code.Instructions(m.Funs) {
+			found[in.Op] = true
+		}
+	}
+	if len(texts) < count*9/10 || len(found) <= code.Return {
+		t.Errorf("%d are different, with the ops %v", len(texts), found)
+	}
+}
+
+// TestBytes: each sign of the notation.
+func TestBytes(t *testing.T) {
+	for text, want := range map[string][]byte{
+		"": nil, "0 127 128 300": {0, 127, 128, 1, 172, 2}, "#0 #-1 #1 #-2 #64": {0, 1, 2, 3, 128, 1}, "'ab '": {2, 'a', 'b', 0}, "HRO HRI": {72, 82, 79, 1, 72, 82, 73, 1},
+		"[] [1 [2 3] (4 5)]": {0, 3, 1, 2, 2, 3, 4, 5}, "(load 1 #2) untry (return 3)": {0, 1, 4, 15, 29, 3},
+	} {
+		if got := samples.Bytes(text); !slices.Equal(got, want) {
+			t.Errorf("%s: %v, not %v", text, got, want)
+		}
 	}
 }
