@@ -4,6 +4,7 @@ import (
 	"slices"
 
 	"heriot/api"
+	"heriot/groups"
 	"heriot/outline"
 	"heriot/stack"
 )
@@ -40,76 +41,17 @@ func newPlacer(p *api.Program) *placer {
 	return out
 }
 
-// grouper finds the groups of a program's functions.
-type grouper struct {
-	calls  [][]int // of each function that is worked on, those that are, too
-	found  []int   // when a function was found, from 1 on
-	count  int
-	open   stack.Of[int] // the functions that are found and belong to no group yet
-	isOpen map[int]bool
-	groups [][]int // each behind those that its functions call
-}
-
 // groupsOf are the groups of some functions, by their numbers, which rise. What others they call has a signature already, so that no group has it.
 func groupsOf(p *api.Program, numbers []int) [][]int {
-	g := &grouper{calls: make([][]int, len(p.Funs)), found: make([]int, len(p.Funs)), isOpen: map[int]bool{}}
 	isOther := func(n int) bool {
 		_, ok := slices.BinarySearch(numbers, n)
 		return !ok
 	}
-	for _, n := range numbers {
-		g.calls[n] = slices.DeleteFunc(calleesOf(&p.Funs[n]), isOther)
+	out := groups.Of(numbers, func(n int) []int { return slices.DeleteFunc(outline.Callees(&p.Funs[n]), isOther) })
+	for _, members := range out {
+		slices.Sort(members)
 	}
-	for _, n := range numbers {
-		if g.found[n] == 0 {
-			g.visit(n)
-		}
-	}
-	return g.groups
-}
-
-func calleesOf(f *api.Fun) []int {
-	var out []int
-	for _, s := range outline.Steps(&f.Body) {
-		if s.Op == api.OCall {
-			out = append(out, s.Code)
-		}
-	}
-	slices.Sort(out)
-	return slices.Compact(out)
-}
-
-// visit finds what a function calls, and gives the first one of the functions that it comes back to.
-func (g *grouper) visit(n int) int {
-	g.count++
-	own := g.count
-	first := own
-	g.found[n] = own
-	g.open.Push(n)
-	g.isOpen[n] = true
-	for _, callee := range g.calls[n] {
-		if g.found[callee] == 0 {
-			first = min(first, g.visit(callee))
-		} else if g.isOpen[callee] {
-			first = min(first, g.found[callee])
-		}
-	}
-	if first == own {
-		g.close(n)
-	}
-	return first
-}
-
-// close makes a group of all that was found from a function on.
-func (g *grouper) close(n int) {
-	var members []int
-	for len(members) == 0 || members[len(members)-1] != n {
-		m := g.open.Pop()
-		delete(g.isOpen, m)
-		members = append(members, m)
-	}
-	slices.Sort(members)
-	g.groups = append(g.groups, members)
+	return out
 }
 
 // placeAll gives some functions their regions, and gives them by their numbers, which rise. All others that they call are done.
@@ -131,7 +73,7 @@ func (p *placer) placeGroup(members []int) {
 	for _, n := range members {
 		f := &function{group: g, number: n, flat: &p.Funs[n], types: map[int]*dressed{}, late: map[int]bound{}}
 		g.functions = append(g.functions, f)
-		if len(members) > 1 || slices.Contains(calleesOf(f.flat), n) {
+		if len(members) > 1 || slices.Contains(outline.Callees(f.flat), n) {
 			p.working[n] = f
 		}
 	}

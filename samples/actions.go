@@ -24,11 +24,11 @@ func (c *composer) act(s *scene) {
 			c.read(s, all[c.below(len(all))])
 		}
 	case 10:
-		if c.inside < 4 {
+		if c.inside < 4 && !c.isBare(s) {
 			c.choice(s)
 		}
 	case 11, 12:
-		if c.inside < 4 {
+		if c.inside < 4 && !c.isBare(s) {
 			c.handle(s)
 		}
 	default:
@@ -168,7 +168,8 @@ func together(e api.Effect, regions []int, effects []api.Effect) api.Effect {
 func (c *composer) readable(s *scene) []variable {
 	var out []variable
 	for _, v := range s.scope {
-		if v.is.Kind >= api.TData && s.canTouch(v.is.Region) && (v.is.Kind != api.TArrow || s.canTouchAll(v.is.Effect)) {
+		isChoice := v.is.Kind == api.TArrow || v.is.Kind == api.TData
+		if v.is.Kind >= api.TData && s.canTouch(v.is.Region) && (v.is.Kind != api.TArrow || s.canTouchAll(v.is.Effect)) && !(isChoice && c.isBare(s)) {
 			out = append(out, v)
 		}
 	}
@@ -257,7 +258,14 @@ func (c *composer) handle(s *scene) {
 // call calls a function, at regions that may be touched; some are handed over.
 func (c *composer) call(s *scene) {
 	all := s.touchable()
-	code := c.below(len(c.Funs))
+	callees := len(c.Funs)
+	if c.isStraight {
+		callees-- // the last one is the one that is made
+	}
+	if callees == 0 {
+		return
+	}
+	code := c.below(callees)
 	f := c.Funs[code]
 	if f.Regions > 0 && len(all) == 0 || c.inside > 3 {
 		return
@@ -283,7 +291,7 @@ func (c *composer) call(s *scene) {
 	for _, formal := range f.Touch.Regions {
 		r := step.Regions[formal]
 		mode := api.Keep
-		if c.below(3) > 0 && slices.Contains(s.mine, r) && isNamedOnce(step, r) {
+		if c.below(3) > 0 && slices.Contains(s.mine, r) && isNamedOnce(step, r) && !c.isBare(s) {
 			mode = api.Last
 			s.consume(r)
 		}

@@ -40,12 +40,13 @@ type scene struct {
 type composer struct {
 	chance
 	api.Program
-	isFlat bool
-	fun    *api.Fun
-	next   int // the next variable
-	local  int // the next local
-	left   int // how many steps may still be made, about
-	inside int // how many blocks are around
+	isFlat     bool
+	isStraight bool // no block but those of lambdas, no closure is called and no region handed over outside of these, and no function calls itself
+	fun        *api.Fun
+	next       int // the next variable
+	local      int // the next local
+	left       int // how many steps may still be made, about
+	inside     int // how many blocks are around
 }
 
 // Regions gives a region program, another one for each number; main has two parameters. Functions call those ahead and themselves.
@@ -68,6 +69,19 @@ func Mutual(number int) api.Program {
 	}
 	return c.whole()
 }
+
+// Straight gives a region program as Regions does, but outside of lambdas nothing is chosen, no closure is called, and no region is handed over; no function calls itself, perhaps over others.
+func Straight(number int) api.Program {
+	c := newComposer(number)
+	c.isStraight = true
+	for i := range 1 + c.below(3) {
+		c.compose(c.declare(c.signature("f" + strconv.Itoa(i))))
+	}
+	return c.whole()
+}
+
+// isBare tells whether steps that are made have to go straight on.
+func (c *composer) isBare(s *scene) bool { return c.isStraight && !s.isLambda }
 
 // Flat gives a flat program with many closures, another one for each number. Functions call each other as they like; main has two parameters.
 func Flat(number int) api.Program {

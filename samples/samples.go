@@ -47,10 +47,11 @@ type named struct {
 // maker makes programs by chance whose types are found, and which do something: functions count their first parameter down.
 type maker struct {
 	chance
-	left  int // how many expressions may still be made
-	scope []named
-	funs  []named
-	own   int // from this one on, functions are of the declaration that is made
+	left   int // how many expressions may still be made
+	scope  []named
+	funs   []named
+	own    int      // from this one on, functions are of the declaration that is made
+	onward []string // what these get as their first argument, so that they end: one of these
 }
 
 // tools is a unit of functions whose types have variables, for all programs by chance.
@@ -63,7 +64,7 @@ const tools = `(unit tools (exception no) (exception why) (data list (a) (Nil) (
 
 // Texts gives the texts of the three units of a program, another one for each number. Most have types and end; main has two parameters.
 func Texts(number int) []string {
-	m := &maker{chance: chance{uint64(number) * 0x9e3779b97f4a7c15}}
+	m := &maker{chance: chance{uint64(number) * 0x9e3779b97f4a7c15}, onward: []string{"(- n 1)"}}
 	first, last := "(unit a (use tools)", "(unit m (use a) (use tools)"
 	for i := range 1 + m.below(3) {
 		first += m.group("f" + strconv.Itoa(i))
@@ -202,6 +203,11 @@ func (m *maker) make(want shape) string {
 		return m.effect()
 	case "color":
 		return "(" + m.one("Red Green Blue") + ")"
+	case "tree":
+		if small {
+			return "(Leaf)"
+		}
+		return m.form("Node", want, integer, want)
 	case "list":
 		if small {
 			return "(Nil)"
@@ -305,7 +311,10 @@ func (m *maker) call(want shape) string {
 			continue
 		}
 		if i >= m.own {
-			return m.callOf(m.funs[i], "(- n 1)")
+			return m.callOf(m.funs[i], m.oneOf(m.onward))
+		}
+		if m.funs[i].params[0].head != "int" {
+			return m.callOf(m.funs[i], m.expr(m.funs[i].params[0]))
 		}
 		return m.callOf(m.funs[i], m.one("1 2 3"))
 	}

@@ -8,6 +8,7 @@ import (
 	"heriot/api"
 	"heriot/code"
 	"heriot/flat"
+	"heriot/outline"
 	"heriot/samples"
 	"heriot/steps"
 	"heriot/types"
@@ -17,8 +18,13 @@ import (
 // programOf is the program of a number, if its types are found.
 func programOf(t *testing.T, number int) (api.Typed, bool) {
 	t.Helper()
+	return typedOf(t, number, samples.Texts(number))
+}
+
+func typedOf(t *testing.T, number int, list []string) (api.Typed, bool) {
+	t.Helper()
 	var units []api.Unit
-	for _, text := range samples.Texts(number) {
+	for _, text := range list {
 		u, r := words.Read(text)
 		if r.E != api.OK {
 			t.Fatalf("%d: %+v", number, r)
@@ -30,14 +36,21 @@ func programOf(t *testing.T, number int) (api.Typed, bool) {
 }
 
 func TestTexts(t *testing.T) {
+	checkTexts(t, samples.Texts)
+	checkTexts(t, samples.Recursive)
+}
+
+// checkTexts looks at units by chance, each of which is made again.
+func checkTexts(t *testing.T, make func(int) []string) {
+	t.Helper()
 	const count = 100
 	found, texts := 0, map[string]bool{}
 	for number := range count {
-		if _, ok := programOf(t, number); ok {
+		list := make(number)
+		if _, ok := typedOf(t, number, list); ok {
 			found++
 		}
-		list := samples.Texts(number)
-		if !reflect.DeepEqual(list, samples.Texts(number)) {
+		if !reflect.DeepEqual(list, make(number)) {
 			t.Errorf("%d: not the same again", number)
 		}
 		texts[list[len(list)-1]] = true
@@ -85,6 +98,26 @@ fun main 0 0 0 {} () int [0 int := int #-5; value 0];`
 func TestRegions(t *testing.T) {
 	checkRegions(t, samples.Regions)
 	checkRegions(t, samples.Mutual)
+	checkRegions(t, samples.Straight)
+}
+
+// TestStraight: outside of lambdas nothing is chosen or applied, no region is handed over, and functions call those ahead.
+func TestStraight(t *testing.T) {
+	for number := range 200 {
+		p := samples.Straight(number)
+		for i, f := range p.Funs {
+			for _, s := range f.Body.Steps {
+				if slices.Contains([]int{api.OIf, api.OCase, api.OHandle, api.OApply}, s.Op) || slices.Contains(s.Modes, api.Last) {
+					t.Errorf("%d: operation %d with the modes %v", number, s.Op, s.Modes)
+				}
+			}
+			for _, s := range outline.Steps(&f.Body) {
+				if s.Op == api.OCall && s.Code >= i {
+					t.Errorf("%d: function %d calls %d", number, i, s.Code)
+				}
+			}
+		}
+	}
 }
 
 // checkRegions looks at region programs by chance, each of which is made again.
