@@ -155,6 +155,9 @@ func (w *walk) binds(of fact, bind []int) {
 
 // lambda goes through the block of a lambda, and gives the costs of its closures, as far as they are known.
 func (w *walk) lambda(s *api.Step) (costs []polynomial.Poly) {
+	if w.isBare {
+		return nil
+	}
 	m, around := w.mark(), w.state
 	defer func() {
 		if r := recover(); r != nil {

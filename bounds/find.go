@@ -22,15 +22,19 @@ type goal struct {
 // seeker looks for certificates.
 type seeker struct {
 	*program
-	isBare bool // of results nothing is asked, and calls in lambdas are left aside
+	isBare bool // lambdas are not gone into, and of results nothing is asked
 	byKey  map[string]*goal
 }
 
-// found are certificates of a program, if some are found: by the chapter's method; or else by one that knows no sizes and no costs of results. These may be beyond all bounds where nothing needs them.
+// found are certificates of a program, if some are found: by the chapter's method; or else by one that knows no costs of closures and no sizes of results. These may be beyond all bounds where nothing needs them.
 func found(w *program) ([]api.Cert, bool) {
 	for _, isBare := range []bool{false, true} {
 		s := &seeker{w, isBare, map[string]*goal{}}
-		if certs, ok := s.seek(); ok {
+		certs, ok := s.seek()
+		if !ok {
+			continue
+		}
+		if known, ok := w.shaped(certs); ok && w.allHold(known) {
 			return certs, true
 		}
 	}
@@ -120,6 +124,7 @@ func (s *seeker) work(group []*goal) bool {
 		for _, g := range group {
 			r := newRaiser(len(g.calls))
 			w := s.newWalk(&g.certificate, r, of)
+			w.isBare = s.isBare
 			if !w.run() {
 				return false
 			}

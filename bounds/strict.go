@@ -17,3 +17,12 @@ func (strict) lacksCosts(int) { require(false) }
 func (w *program) holds(c *certificate, of func(fun int, mine []int) *certificate) bool {
 	return w.newWalk(c, strict{}, of).run()
 }
+
+func (w *program) allHold(known *certificates) bool {
+	for _, c := range known.list {
+		if !w.holds(c, known.of) {
+			return false
+		}
+	}
+	return true
+}

@@ -31,6 +31,7 @@ type walk struct {
 	*text
 	judge
 	of        func(fun int, mine []int) *certificate // of the callees
+	isBare    bool                                   // lambdas are not gone into
 	certified int                                    // how many of the path variables are the certificate's own: the first ones
 	numbers   map[int]int                            // of the regions of Touch that are not its own: the numbers of their Growth
 	claims    claims                                 // in the path variables
@@ -42,7 +43,7 @@ type walk struct {
 	state
 }
 
-// path is a path variable: the variable of the certificate that it came from, and whether it stands for several ones, of which no other one is told apart.
+// path is a path variable: the variable of the certificate that it came from, and whether it stands for several ones that nothing tells apart.
 type path struct {
 	origin    int
 	isSeveral bool
@@ -213,7 +214,7 @@ func addTo(of map[int]amount, key int, words polynomial.Poly) {
 	of[key] = amount{now, polynomial.Greatest(of[key].high, now)}
 }
 
-// adds adds words to a region, and tells whether it is one of others.
+// adds adds words to a region, and tells whether that is others'.
 func (w *walk) adds(region int, words polynomial.Poly) bool {
 	if _, ok := w.held[region]; ok {
 		addTo(w.held, region, words)
@@ -223,7 +224,7 @@ func (w *walk) adds(region int, words polynomial.Poly) bool {
 	return true
 }
 
-// addsAll adds words to all regions, and behind all variables, of an effect, and tells whether that are some of others.
+// addsAll adds words to all regions, and behind all variables, of an effect, and tells whether some of these are others'.
 func (w *walk) addsAll(e *api.Effect, words polynomial.Poly) bool {
 	isOthers := len(e.Vars) > 0
 	for _, r := range e.Regions {
